@@ -1,0 +1,1 @@
+"""Stillgood: answers that still hold when the calls are run."""

@@ -1,0 +1,140 @@
+"""The package keeps what can be looked up of the rules L1 to L28."""
+
+import ast
+import importlib
+import inspect
+import pathlib
+import sys
+import unittest
+import warnings
+
+import stillgood
+from tests.rules import broken
+
+FOLDER = pathlib.Path(stillgood.__file__).parent
+INTERFACE = {
+    "books": ["Book"], "texts": ["book_text", "book_in"],
+}
+
+# A file that breaks just this rule.
+SAMPLES = [
+    ("L2", "def f():\n    return 1\n\n\nfrom math import gcd\n"),
+    ("L2", "from stillgood.a import *\n"),
+    ("L2", "from . import a\n"),
+    ("L2", "from math import floor\n"),
+    ("L16", "import math\n"),
+    ("L16", "from os import path\n"),
+    ("L16", "from stillgood.nothing import f\n"),
+    ("L3", "f = [1]\nf.append(2)\n"),
+    ("L3", "A = len([1])\n"),
+    ("L3", "for k in (1, 2):\n    pass\n"),
+    ("L4", "def f(xs=[]):\n    return xs\n"),
+    ("L4", "def g(f):\n    return f\n\n\n@g\ndef h():\n    return 1\n"),
+    ("L5", "class A:\n    def __hash__(self):\n        return 1\n"),
+    ("L5", "class A:\n    def __getitem__(self, at):\n        return at\n"),
+    ("L5", "class A:\n    def __add__(self, other=1):\n        return other\n"),
+    ("L5", "class A:\n    def __init__(self):\n        self.n = 1\n\n    def __add__(self, other):\n        self.n = 2\n"),
+    ("L5", "class A:\n    def __sub__(self, other):\n        return f([])\n\n\ndef f(xs):\n    xs.append(1)\n"),
+    ("L5", "class A:\n    def __contains__(self, x):\n        n = 0\n        n += 1\n        return n == x\n"),
+    ("L5", "class A:\n    @property\n    def told(self):\n        return f(len)\n\n\ndef f(g):\n    return g([])\n"),
+    ("L6", "def f():\n    global g\n"),
+    ("L6", "def f():\n    f\n"),
+    ("L7", "def f():\n    return 1.5\n"),
+    ("L7", "def f(k):\n    return k / 2\n"),
+    ("L7", "def f(k):\n    return bytes(k)\n"),
+    ("L7", "class A:\n    def __eq__(self, other):\n        return True\n\n\ndef f(xs):\n    return any(x for x in xs)\n"),
+    ("L8", "def f(k):\n    return round(k)\n"),
+    ("L8", "def f(k):\n    return k.__dict__\n"),
+    ("L8", "def sorted(xs):\n    return xs\n"),
+    ("L10", "def f():\n" + "    pass\n" * 40),
+    ("L10", "A = 1\n" * 1 + "\n" * 399),
+    ("L10", "A = '" + "a" * 120 + "'\n"),
+    ("L12", "def f(__k):\n    return 1\n"),
+    ("L12", "_record = 1\n"),
+    ("L12", "def f():\n    _ = 1\n    return _\n"),
+    ("L13", "def f(g):\n    return g(lambda x: 1), g(lambda x: 2)\n"),
+    ("L14", "A = '\u00e4'\n"),
+    ("L15", "A = 1\nA = 2\n"),
+    ("L15", "A = [[1]]\n"),
+    ("L15", "class A:\n    pass\n\n\ndef f(A):\n    return 1\n"),
+    ("L15", "from math import gcd\n\n\ndef f():\n    gcd = 1\n    return gcd\n"),
+    ("L15", "def f(hash):\n    return 1\n"),
+    ("L17", "def f(elements):\n    return 1\n"),
+    ("L17", "def f(x):\n    return 'namedtuple'\n"),
+    ("L17", "def f(x):\n    return type(x)\n"),
+    ("L18", "class A:\n    pass\n\n\ndef f():\n    return A\n"),
+    ("L18", "class A:\n    def f(self):\n        pass\n\n    def f(self):\n        pass\n"),
+    ("L18", "def f(x):\n    return x.nowhere\n"),
+    ("L19", "def f():\n    raise f()\n"),
+    ("L19", "def f():\n    try:\n        return 1\n    except TypeError:\n        return 2\n"),
+    ("L20", "def f(x):\n    return x is f\n"),
+    ("L22", "def f(x):\n    return int(x, base=2)\n"),
+    ("L22", "def f(g):\n    return g(len)\n"),
+    ("L23", "def f(xs):\n    return zip(xs, xs)\n"),
+    ("L23", "def f(xs):\n    for x in xs:\n        xs.append(x)\n"),
+    ("L24", "def f(xs):\n    return set(xs)\n"),
+    ("L25", "def f(x):\n    return x.encode_it()\n"),
+    ("L25", "class A:\n    def __len__(self):\n        return 1\n\n\ndef f(xs):\n    xs.sort()\n"),
+    ("L26", "class A:\n    def __init__(self):\n        self.items = 1\n"),
+    ("L26", "class A:\n    def bit_count(self):\n        return 1\n"),
+    ("L27", "def f(k):\n    return 2 ** k\n"),
+    ("L27", "def f():\n    return '%'\n"),
+    ("L27", "def f():\n    return '\\x41'\n"),
+    ("L28", "class A:\n    def __init__(self):\n        return None\n"),
+    ("L28", "class A:\n    def __init__(self):\n        self.n = 1\n\n    def __len__(self):\n        return self.n\n"),
+]
+
+
+def package_files():
+    return {path.name: path.read_bytes().decode("utf-8") for path in FOLDER.iterdir() if path.name != "__pycache__"}
+
+
+class Rules(unittest.TestCase):
+    def test_the_package(self):
+        self.assertEqual(broken(package_files()), [])
+
+    def test_the_folder(self):
+        for path in FOLDER.rglob("*"):
+            if "__pycache__" not in path.parts:
+                self.assertEqual((path.suffix, path.is_file()), (".py", True), path)
+        files = package_files()
+        self.assertIn("__init__.py", files)
+        self.assertLessEqual(len(files), 100)
+        self.assertNotIn(FOLDER.name, sys.stdlib_module_names)
+
+    def test_the_checker_sees_what_is_broken(self):
+        for rule, text in SAMPLES:
+            with self.subTest(rule=rule, text=text):
+                found = broken({"a.py": text})
+                self.assertIn(rule, [one for one, _ in found])
+
+    def test_the_checker_sees_rings_of_imports(self):
+        one, other = "from stillgood.b import g\n\n\ndef f():\n    return g()\n", "from stillgood.a import f\n"
+        self.assertIn(("L16", "a.py:0"), broken({"a.py": one, "b.py": other + "\n\ndef g():\n    return f()\n"}))
+        self.assertIn(("L1", "A b.py:0"), broken({"A b.py": ""}))
+        self.assertIn(("L14", "test.py:0"), broken({"test.py": ""}))
+
+    def test_interface_is_defined_in_its_files(self):
+        for file, names in INTERFACE.items():
+            module = importlib.import_module(f"stillgood.{file}")
+            tree = ast.parse((FOLDER / f"{file}.py").read_text())
+            defined = {node.name for node in tree.body if isinstance(node, (ast.FunctionDef, ast.ClassDef))}
+            for name in names:
+                self.assertIn(name, defined)
+                self.assertEqual(getattr(module, name).__module__, module.__name__)
+
+    def test_arguments_have_the_names_of_the_document(self):
+        found = {name: str(inspect.signature(getattr(importlib.import_module(f"stillgood.{file}"), name)))
+                 for file, names in INTERFACE.items() for name in names}
+        self.assertEqual(found, {
+            "Book": "(fields, kinds)", "book_text": "(book)", "book_in": "(text)"})
+
+    def test_no_warnings(self):
+        with warnings.catch_warnings():
+            warnings.simplefilter("error")
+            for name, text in package_files().items():
+                compile(text, name, "exec")
+
+
+if __name__ == "__main__":
+    unittest.main()
