@@ -22,4 +22,45 @@ raises BadLine(number=2)
 >>> book_in('fields f\nkind get k\n  has k')
 raises BadLine(number=3)
 ''',
+    6: r'''
+>>> ask(both, {}, ("make", 5)), run(both, {5: (7,)}, [("drop", 5), ("make", 5), ("make", 5)])
+('made', (('dropped', 'made', 'taken'), {5: (0,)}))
+>>> show(both, {5: (7,)}, [("drop", 5), ("make", 5), ("make", 6)])
+((('drop', 5), 'dropped'), (('make', 5), 'taken'), (('make', 6), 'made'))
+>>> shows(both, {5: (7,)}, [(("make", 5), "made")]), shows(both, {}, [(("make", 5), "made"), (("make", 5), "made")])
+(False, True)
+>>> ask(both, {}, ("make", 5, 6))
+raises BadCall(call=('make', 5, 6))
+''',
+    7: r'''
+>>> follow = ("follow", ("k",), ("has", "k", ("let", "x", "k", "f", ("has", "x", ("say", (), "far"), ("say", (), "near"))), ("say", (), "none")))
+>>> chase, first, second = Book(("f",), (follow,)), ("follow", 1), ("follow", 2)
+>>> known(chase, (second, first)), known(both, (("make", 5),)), known(both, (("drop", 5),))
+((1, 2), (0, 5), (5,))
+>>> reads(chase, {1: (1,)}, first), reads(chase, {1: (7,)}, first), reads(chase, {}, first)
+((('has', 1, True), ('let', 1, 'f', 1), ('has', 1, True)), (('has', 1, True), ('let', 1, 'f', 7), ('has', 7, False)), (('has', 1, False),))
+>>> seen = []
+>>> watched(chase, {1: (7,)}, first, seen.append), len(seen), watched(chase, {1: (7,)}, first, {("let", 1, "f", 7): False}.get)
+('near', 3, None)
+>>> are_alike(chase, (first,), {1: (7,)}, {1: (8,), 7: (0,)}), are_alike(chase, (first,), {1: (7,), 7: (0,)}, {1: (1,)}), are_alike(chase, (first, second), {1: (2,)}, {1: (3,)})
+(True, False, False)
+>>> matching(chase, (first,), {1: (7,), 7: (0,)}, {1: (9,), 9: (3,)}), matching(chase, (), {}, {5: (5,)})
+(((1, 1), (7, 9)), ())
+>>> [len(samples(chase, lines)) for lines in (((first, "far"),), ((first, "near"),), ((first, "far"), (second, "near")), ((first, "far"), (first, "none")), ())]
+[2, 1, 3, 0, 1]
+>>> samples(chase, ((first, "far"), (second, "near")), most=2)
+raises TooMany(most=2)
+''',
+    8: r'''
+>>> harms(both, (("make", 5), "made"), (("make", 5), "made")), harms(both, (("make", 5), "made"), (("make", 6), "made")), harms(both, (("drop", 5), "dropped"), (("make", 5), "made"))
+(True, False, False)
+>>> 5 in harm_store(both, (("make", 5), "made"), (("drop", 5), "gone")), can_harm(both, ("drop", 5), ("make", 5)), can_harm(both, ("drop", 5), ("drop", 6))
+(False, True, False)
+>>> row_of(both, (("make", 5), "made"), (("drop", 0), "gone")), row_of(both, (("make", 7), "taken"), (("drop", 8), "gone"))
+('make A made > drop 0 gone', 'make A taken > drop B gone')
+>>> Table(both)["drop", "make"], len(Table(both)), "make A made > make B made" in Table(both)
+(('drop 0 dropped > make 0 taken', 'drop A dropped > make A taken'), 8, False)
+>>> Table(both)((("make", 3), "made"), (("drop", 3), "gone")), len(Table(both) - Table(both - "drop")), len(Table(both - "drop") - Table(both))
+(True, 6, 0)
+''',
 }

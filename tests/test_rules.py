@@ -13,7 +13,9 @@ from tests.rules import broken
 
 FOLDER = pathlib.Path(stillgood.__file__).parent
 INTERFACE = {
-    "books": ["Book"], "texts": ["book_text", "book_in"],
+    "books": ["Book"], "texts": ["book_text", "book_in"], "calls": ["is_call", "ask", "run", "show", "shows"],
+    "cases": ["known", "reads", "watched", "matching", "are_alike", "samples"],
+    "harm": ["harms", "harm_store", "can_harm", "row_of"], "table": ["Table"],
 }
 
 # A file that breaks just this rule.
@@ -127,7 +129,13 @@ class Rules(unittest.TestCase):
         found = {name: str(inspect.signature(getattr(importlib.import_module(f"stillgood.{file}"), name)))
                  for file, names in INTERFACE.items() for name in names}
         self.assertEqual(found, {
-            "Book": "(fields, kinds)", "book_text": "(book)", "book_in": "(text)"})
+            "Book": "(fields, kinds)", "book_text": "(book)", "book_in": "(text)", "is_call": "(book, thing)",
+            "ask": "(book, store, call)", "run": "(book, store, calls)", "show": "(book, store, calls)",
+            "shows": "(book, store, lines)", "known": "(book, calls)", "reads": "(book, store, call)",
+            "watched": "(book, store, call, visit)", "matching": "(book, calls, one, other)",
+            "are_alike": "(book, calls, one, other)", "samples": "(book, lines, *, most=300)",
+            "harms": "(book, one, other)", "harm_store": "(book, one, other)", "can_harm": "(book, call, other)",
+            "row_of": "(book, one, other)", "Table": "(book)"})
 
     def test_no_warnings(self):
         with warnings.catch_warnings():
