@@ -15,11 +15,16 @@ def harms(book, one, other):
 def harm_store(book, one, other):
     """A STORE on which the LINE one harms the LINE other; None if there is none."""
     first, second = checked_line(book, one), checked_line(book, other)
-    for scene, word, changes in endings(book, opened(known(book, (first[0], second[0]))), {}, first[0]):
-        if word == first[1] and changes != ():
+    return turning_store(book, first[0], (first[1],), second)
+
+
+def turning_store(book, call, words, line):
+    """A STORE that shows the LINE on which the CALL answers one of the words, all if None, and turns the LINE."""
+    for scene, word, changes in endings(book, opened(known(book, (call, line[0]))), {}, call):
+        if changes != () and (words is None or word in words):
             view = changed_view(book.fields, {}, changes)
-            for within in showing(book, scene, second):
-                turned = turned_scenes(book, within, view, second)
+            for within in showing(book, scene, line):
+                turned = turned_scenes(book, within, view, line)
                 if turned != []:
                     return store_of(turned[0])
     return None

@@ -2,7 +2,7 @@
 
 from stillgood.errors import NoKind
 from stillgood.harm import harmful_words, row_text
-from stillgood.values import ascending
+from stillgood.values import ascending, number_choices
 
 
 class Table:
@@ -62,17 +62,3 @@ def pair_rows(book, one, other):
         for word, answer in harmful_words(book, call, last):
             rows.append(row_text(book.constants, (call, word), (last, answer)))
     return ascending(rows)
-
-
-def number_choices(constants, many):
-    """So many numbers in all ways that differ in the constants and in which of the others are equal."""
-    choices = [()]
-    for _ in range(many):
-        choices = [(*choice, number) for choice in choices for number in next_numbers(constants, choice)]
-    return choices
-
-
-def next_numbers(constants, choice):
-    """The numbers that make a difference behind this choice: the named ones, and one other."""
-    named = ascending(constants + choice)
-    return (*named, max(named, default=0) + 1)

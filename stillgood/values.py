@@ -1,4 +1,4 @@
-"""Plain values: numbers, NAMEs, tuples, and numbers as they are written in texts."""
+"""Plain values: numbers, NAMEs, tuples, places, STOREs, and numbers as they are written in texts."""
 
 
 def is_number(value):
@@ -30,6 +30,52 @@ def tupled(value):
 def ascending(members):
     """The members as an ascending tuple, without duplicates."""
     return tuple(sorted(set(members)))
+
+
+def place_pairs(many):
+    """The pairs (i, j), i < j, of so many places, ascending."""
+    return [(i, j) for i in range(many) for j in range(i + 1, many)]
+
+
+def later_places(places, many):
+    """Those of so many places that stand behind all of these ascending ones."""
+    return list(range(max(places, default=-1) + 1, many))
+
+
+def by_size(choices):
+    """The tuples as a list, those with fewer members first, among these ascending."""
+    return sorted(choices, key=lambda places: (len(places), places))
+
+
+def are_numbers(value):
+    """Whether the value is a tuple of numbers."""
+    return isinstance(value, tuple) and all([is_number(number) for number in value])
+
+
+def is_store(fields, value):
+    """Whether the value is a STORE with RECORDs for these fields."""
+    if not isinstance(value, dict):
+        return False
+    return are_numbers(tuple(value)) and all([is_record(fields, record) for record in value.values()])
+
+
+def is_record(fields, value):
+    """Whether the value is a RECORD for these fields."""
+    return are_numbers(value) and len(value) == len(fields)
+
+
+def number_choices(named, many):
+    """So many numbers in all ways that differ in the named ones and in which of the others are equal."""
+    choices = [()]
+    for _ in range(many):
+        choices = [(*choice, number) for choice in choices for number in next_numbers(named, choice)]
+    return choices
+
+
+def next_numbers(named, choice):
+    """The numbers that make a difference behind this choice: those that are there, and one other."""
+    told = ascending(named + choice)
+    return (*told, max(told, default=0) + 1)
 
 
 def writes_number(word):

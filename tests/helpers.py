@@ -101,10 +101,49 @@ def small_stores(numbers, width):
         yield {key: record for key, record in zip(numbers, chosen) if record is not None}
 
 
+def bare_stores(keys):
+    """All STOREs with some of these keys and always the same RECORD."""
+    return [{key: (0,) for key in chosen} for size in range(len(keys) + 1)
+            for chosen in itertools.combinations(keys, size)]
+
+
 def calls_over(book, numbers):
     """All CALLs of the book with these numbers."""
     return [(name, *passed) for name, parameters, _ in book.kinds
             for passed in itertools.product(numbers, repeat=len(parameters))]
+
+
+def random_lines(rng, book, numbers, many):
+    """So many LINES with words of their KINDs, of which two or more can be alike."""
+    calls = calls_over(book, numbers)
+    chosen = [rng.choice(calls) for _ in range(many)]
+    return tuple((call, rng.choice(sorted(words_of(book[call[0]][2])))) for call in chosen)
+
+
+def shown_lines(rng, book, numbers, many, stores):
+    """So many LINES that one of the STOREs shows."""
+    calls, store = calls_over(book, numbers), rng.choice(stores)
+    chosen = [rng.choice(calls) for _ in range(many)]
+    return tuple((call, followed(book, store, call)[0]) for call in chosen)
+
+
+def all_ticks(many):
+    """All ticks of so many LINES, those with fewer places first, ascending."""
+    return [ticks for size in range(many + 1) for ticks in itertools.combinations(range(many), size)]
+
+
+def outcome(book, store, calls):
+    """The words of the CALLs, run one after another, straight from the document."""
+    words = []
+    for call in calls:
+        word, _, store = followed(book, store, call)
+        words.append(word)
+    return tuple(words)
+
+
+def showing(book, stores, lines):
+    """Those of the STOREs that show the LINES."""
+    return [store for store in stores if all(followed(book, store, call)[0] == word for call, word in lines)]
 
 
 def words_of(body):
@@ -114,16 +153,16 @@ def words_of(body):
     return set().union(*[words_of(part) for part in (body[4:] if body[0] != "has" else body[2:])])
 
 
-def random_book(seed, fields=("f",), kinds=2, constants=(0,), tests=3):
+def random_book(seed, fields=("f",), kinds=2, constants=(0,), tests=3, lets=True):
     """A small Book that depends on the seed alone."""
     rng = random.Random(seed)
     names = ["one", "two", "three", "four"][:kinds]
-    return Book(fields, [random_kind(rng, name, fields, constants, tests) for name in names])
+    return Book(fields, [random_kind(rng, name, fields, constants, tests, lets) for name in names])
 
 
-def random_kind(rng, name, fields, constants, tests):
+def random_kind(rng, name, fields, constants, tests, lets):
     parameters = ("a", "b")[:rng.choice((1, 1, 2))]
-    return name, parameters, random_body(rng, fields, list(parameters + constants), (), tests, True)
+    return name, parameters, random_body(rng, fields, list(parameters + constants), (), tests, lets)
 
 
 def random_body(rng, fields, terms, tested, tests, may_let):

@@ -2,10 +2,10 @@
 
 import unittest
 
-from stillgood import books, calls, cases, errors, harm, table, texts
+from stillgood import books, calls, cases, choices, errors, harm, parts, table, telling, texts, ticked
 from tests.examples import EXAMPLES
 
-FILES = (books, calls, cases, harm, table, texts)
+FILES = (books, calls, cases, choices, harm, parts, table, telling, texts, ticked)
 
 
 def raised(source, names):
@@ -41,8 +41,8 @@ class Examples(unittest.TestCase):
             self.assertEqual(repr(eval(source, names)), repr(eval(expected, {})))
 
     def test_every_point_has_examples(self):
-        self.assertEqual(list(EXAMPLES), [4, 5, 6, 7, 8])
-        self.assertEqual([text.count("\n>>> ") for text in EXAMPLES.values()], [6, 4, 4, 10, 5])
+        self.assertEqual(list(EXAMPLES), [4, 5, 6, 7, 8, 9, 10, 11])
+        self.assertEqual([text.count("\n>>> ") for text in EXAMPLES.values()], [6, 4, 4, 10, 5, 4, 16, 16])
 
 
 if __name__ == "__main__":

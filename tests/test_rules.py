@@ -16,6 +16,11 @@ INTERFACE = {
     "books": ["Book"], "texts": ["book_text", "book_in"], "calls": ["is_call", "ask", "run", "show", "shows"],
     "cases": ["known", "reads", "watched", "matching", "are_alike", "samples"],
     "harm": ["harms", "harm_store", "can_harm", "row_of"], "table": ["Table"],
+    "ticked": ["harmed", "hold", "failure", "turned_by", "hold_among"],
+    "telling": ["is_telling", "hiding", "is_hiding"],
+    "parts": ["first_untrue", "least_part", "is_least_part", "all_hold", "most_calls"],
+    "choices": ["comes_true", "failing_store", "good_choices", "harmed_among", "mends", "fewest_mend", "must_go_with",
+                "ruled_out_by"],
 }
 
 # A file that breaks just this rule.
@@ -135,7 +140,16 @@ class Rules(unittest.TestCase):
             "watched": "(book, store, call, visit)", "matching": "(book, calls, one, other)",
             "are_alike": "(book, calls, one, other)", "samples": "(book, lines, *, most=300)",
             "harms": "(book, one, other)", "harm_store": "(book, one, other)", "can_harm": "(book, call, other)",
-            "row_of": "(book, one, other)", "Table": "(book)"})
+            "row_of": "(book, one, other)", "Table": "(book)",
+            "harmed": "(book, lines)", "hold": "(book, lines)", "failure": "(book, lines)",
+            "turned_by": "(book, names, line)", "hold_among": "(book, names, lines)", "is_telling": "(book, name)",
+            "hiding": "(book, name)", "is_hiding": "(book, name, thing)",
+            "first_untrue": "(book, store, lines, ticks)", "least_part": "(book, lines)",
+            "is_least_part": "(book, lines, thing)", "all_hold": "(book, lines)", "most_calls": "(book, lines)",
+            "comes_true": "(book, lines, ticks)", "failing_store": "(book, lines, ticks)",
+            "good_choices": "(book, lines)", "harmed_among": "(book, lines)", "mends": "(book, lines, ticks)",
+            "fewest_mend": "(book, lines, ticks)", "must_go_with": "(book, lines, ticks)",
+            "ruled_out_by": "(book, lines, pair)"})
 
     def test_no_warnings(self):
         with warnings.catch_warnings():
