@@ -94,8 +94,8 @@ def ruled_out_by(book, lines, pair):
     """The list of all least further places whose LINEs rule out that the LINE at i harms the one at j."""
     checked = checked_lines(book, lines)
     one, other = checked[pair[0]], checked[pair[1]]
-    states = shown_states(book, (one, other), [call for call, _ in checked])
-    waiting = [((), [scene for scene, _ in failed_states(book, states, one, other)])]
+    states = shown_states(book, (one, other), [line[0] for line in checked])
+    waiting = [((), [state[0] for state in failed_states(book, states, one, other)])]
     found = []
     while waiting != []:
         places, scenes = waiting.pop()

@@ -51,7 +51,7 @@ def all_hold(book, lines):
 
 def most_calls(book, lines):
     """A number of places that the ticks of least_part never exceed."""
-    names = [call[0] for call, _ in checked_lines(book, lines)]
+    names = [line[0][0] for line in checked_lines(book, lines)]
     # A KIND that is telling adds nothing: its word was shown, so what it changes is known.
     added = [0 if is_telling(book, name) else length(book, name) for name in names]
     return max([min(n + 1, 1 + length(book, name) + sum(added[:n])) for n, name in enumerate(names)], default=0)

@@ -120,4 +120,88 @@ raises NoKind(name='put')
 >>> harmed_among(net, chain), comes_true(net, chain, (0, 1, 2)), mends(net, chain, (0, 1, 2)), must_go_with(net, chain, (0, 1, 2))
 ([], False, [(0,), (1,), (2,)], None)
 ''',
+    12: r'''
+>>> store, calls = {5: (7,)}, (("drop", 5), ("make", 5), ("make", 5))
+>>> lines_at(both, store, calls, 0)
+((('drop', 5), 'dropped'), (('make', 5), 'taken'), (('make', 5), 'taken'))
+>>> lines_at(both, store, calls, 1), lines_at(both, store, calls, 3)
+(((('make', 5), 'made'), (('make', 5), 'made')), ())
+>>> stages(both, store, calls), spans(both, store, calls)
+([(0, 1, ('dropped',)), (1, 2, ('made',)), (2, 3, ('taken',))], [(0, 0, 1), (1, 1, 2)])
+>>> stages(both, {}, calls[1:] + calls[1:2]), stages(both, store, calls, (1, 2))
+([(0, 1, ('made',)), (1, 3, ('taken', 'taken'))], [(0, 1, ('dropped',)), (1, 3, ('taken', 'taken'))])
+>>> shown(both, store, calls), shown(both, store, calls, (1, 2))
+(('dropped', 'made', 'taken'), ('dropped', 'taken', 'taken'))
+>>> [is_way(both, store, calls, thing) for thing in ((0, 1, 2), (0, 1), [0, 1, 2])], is_span(both, store, calls, (0, 0, 2))
+([True, False, False], True)
+>>> others = (("make", 5), ("make", 6), ("make", 5))
+>>> ways(both, {}, others), cut_ranges(both, {}, others), spans(both, {}, others)
+([(0, 1), (0, 1, 2), (0, 2)], [(0, 0), (1, 2)], [(0, 0, 2)])
+>>> voided(both, (("make", 5), "made"), ((("make", 5), "made"), (("make", 6), "made"), (("drop", 5), "gone")))
+(0, 2)
+>>> again = (("make", 5), ("make", 5), ("make", 6))
+>>> asks_needed(both, {}, again, (0, 1)), asks_needed(both, {}, again, (0, 1), keep=True)
+(5, 4)
+>>> [number for number, store in how_often(both, again)], [number for number, store in how_often(both, again, ((("make", 5), "made"),))]
+([1, 2], [2])
+>>> asks_needed(both, {}, again, (0, 2))
+raises NoWay()
+''',
+    13: r'''
+>>> service = Service(both, {5: (7,)})
+>>> client = Client(both, [("drop", 5), ("make", 5), ("make", 5), ("make", 6)], asker=service.ask, runner=service.run)
+>>> client.words, client.at, client.ready, client.asked, client.ticks, len(client)
+(('dropped', 'taken', 'taken', 'made'), 0, 1, 4, (0, 1, 2, 3), 4)
+>>> client.go(), client.words, client.at, client.ready, client.asked
+(('dropped',), ('dropped', 'made', 'made', 'made'), 1, 2, 6)
+>>> client[1] = False
+>>> client.go(), client.words, client.at, client.ready, client.ticks, service.store
+((), ('dropped', 'made', 'made', 'made'), 2, 4, (2, 3), {})
+>>> service.run(("make", 6))
+'made'
+>>> client.go()
+raises Untrue(place=3, word='taken')
+>>> client.ran, client.at, client.words, client.finish(), service.ran
+(((0, 'dropped'), (2, 'made'), (3, 'taken')), 4, ('dropped', 'made', 'made', 'taken'), [], (('drop', 5), ('make', 6), ('make', 5), ('make', 6)))
+>>> client += [("drop", 6), ("drop", 6)]
+>>> client.words[4:], client.ready, client.asked, client.renew()
+(('dropped', 'dropped'), 5, 8, 0)
+>>> client.tick_only((5, 4, 5)), client.ticks
+(None, (4, 5))
+>>> client.ticks = (5,)
+>>> client.finish(), client.words[4:], client.ran[-1], client.asked
+([(), ('dropped',)], ('dropped', 'dropped'), (5, 'dropped'), 8)
+>>> client[2] = True
+raises Passed(place=2)
+''',
+    14: r'''
+>>> thrice = ((("make", 5), "made"),) * 3
+>>> foretold(both, thrice, [("make", 5)] * 3), foretold(both, thrice, [("make", 6)]), outcomes(both, thrice, [("drop", 5), ("drop", 6)])
+(('made', 'taken', 'taken'), None, [('gone', 'dropped'), ('gone', 'gone')])
+>>> test = ("test", ("k", "v"), ("has", "k", ("is", "k", "f", "v", ("say", (), "yes"), ("say", (), "no")), ("say", (), "none")))
+>>> copy = ("copy", ("a", "b"), ("has", "a", ("let", "x", "a", "f", ("say", (("make", "b", ("x",)),), "copied")), ("say", (), "none")))
+>>> more = both | Book(("f",), (test, copy))
+>>> lines, calls = ((("copy", 1, 2), "copied"), (("test", 2, 4), "yes")), (("copy", 1, 2), ("test", 2, 4))
+>>> outcomes(more, lines, calls), foretold(more, lines, calls), beginning(more, lines, calls), fork(more, lines, calls)[2]
+([('copied', 'no'), ('copied', 'yes')], None, ('copied',), 1)
+>>> is_fork(more, lines, calls, ({1: (4,), 2: (4,)}, {1: (0,), 2: (4,)}, 1)), is_fork(more, lines, calls, ({1: (4,), 2: (4,)}, {1: (0,), 2: (4,)}, 0))
+(True, False)
+>>> longer, run_calls = lines + ((("test", 2, 5), "no"),), calls + (("test", 2, 5),)
+>>> surprises(more, longer, run_calls, {1: (4,), 2: (4,)}), surprises(more, longer, run_calls, {1: (5,), 2: (4,)})
+([1], [1, 2])
+>>> fewest_surprises(more, longer, run_calls)[0], most_surprises(more, longer, run_calls)[0], most_surprises(both, thrice, [("make", 5)] * 3)[0]
+(1, 2, 0)
+>>> surprises(more, lines, calls, {1: (4,), 2: (0,)})
+raises NotShown(place=1)
+>>> foretold(both, ((("make", 5), "made"), (("drop", 5), "dropped")), ())
+raises NeverShown()
+>>> told = Known(more, lines)
+>>> told[("drop", 1)], told[("test", 2, 5)], told[("test", 1, 4)], ("make", 3) in told, told(calls)
+('dropped', 'no', None, False, None)
+>>> told[("test", 1, 4)] = "no"
+>>> told(calls), len(told), Known(more, lines).follows_from(told), told.follows_from(Known(more, lines)), told == Known(more, told.lines[1:])
+(('copied', 'no'), 3, True, False, True)
+>>> told[("test", 1, 4)] = "yes"
+raises NeverShown()
+''',
 }

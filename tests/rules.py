@@ -399,10 +399,15 @@ def call_rules(package, name, tree):
                 yield "L8", node.lineno
             elif is_call and node.attr not in words.METHODS | own | {"__init__", "maketrans"}:
                 yield "L25", node.lineno
-            elif not is_call and node.attr not in own and not node.attr.startswith("__"):
+            elif not is_call and node.attr not in own and not node.attr.startswith("__") and not is_setter(node, holder):
                 yield "L18", node.lineno
         if isinstance(node, ast.Call):
             yield from argument_rules(package, node)
+
+
+def is_setter(node, holder):
+    """Whether this is the mark over the setter of a property of this name."""
+    return node.attr == "setter" and isinstance(holder, ast.FunctionDef) and node.value.id == holder.name
 
 
 def argument_rules(package, node):

@@ -2,16 +2,17 @@
 
 import unittest
 
-from stillgood import books, calls, cases, choices, errors, harm, parts, table, telling, texts, ticked
+from stillgood import (books, calls, cases, choices, client, errors, foretold, harm, parts, stages, table, telling, texts,
+                       ticked)
 from tests.examples import EXAMPLES
 
-FILES = (books, calls, cases, choices, harm, parts, table, telling, texts, ticked)
+FILES = (books, calls, cases, choices, client, foretold, harm, parts, stages, table, telling, texts, ticked)
 
 
 def raised(source, names):
     """The error that an expression raises, as the document writes it."""
     try:
-        found = eval(source, names)
+        found = exec(source, names) if " = " in source else eval(source, names)
     except Exception as error:
         if error.__class__.__module__ != errors.__name__:
             raise
@@ -41,8 +42,8 @@ class Examples(unittest.TestCase):
             self.assertEqual(repr(eval(source, names)), repr(eval(expected, {})))
 
     def test_every_point_has_examples(self):
-        self.assertEqual(list(EXAMPLES), [4, 5, 6, 7, 8, 9, 10, 11])
-        self.assertEqual([text.count("\n>>> ") for text in EXAMPLES.values()], [6, 4, 4, 10, 5, 4, 16, 16])
+        self.assertEqual(list(EXAMPLES), list(range(4, 15)))
+        self.assertEqual([text.count("\n>>> ") for text in EXAMPLES.values()], [6, 4, 4, 10, 5, 4, 16, 16, 14, 15, 18])
 
 
 if __name__ == "__main__":

@@ -21,6 +21,22 @@ INTERFACE = {
     "parts": ["first_untrue", "least_part", "is_least_part", "all_hold", "most_calls"],
     "choices": ["comes_true", "failing_store", "good_choices", "harmed_among", "mends", "fewest_mend", "must_go_with",
                 "ruled_out_by"],
+    "stages": ["lines_at", "stages", "is_way", "ways", "cut_ranges", "is_span", "spans", "shown", "voided", "asks_needed",
+               "how_often"],
+    "client": ["Service", "Client"],
+    "foretold": ["outcomes", "foretold", "beginning", "fork", "is_fork", "surprises", "fewest_surprises",
+                 "most_surprises", "Known"],
+}
+# What the document lists of each class; the rest of it is private.
+METHODS = {
+    "Book": ["fields", "kinds", "constants", "__len__", "__contains__", "__getitem__", "__eq__", "__ne__", "__or__",
+             "__sub__", "__ior__", "__isub__", "is_kind", "copy"],
+    "Table": ["rows", "constants", "__len__", "__contains__", "__call__", "__getitem__", "__eq__", "__ne__", "__sub__"],
+    "Service": ["ask", "run", "store", "ran"],
+    "Client": ["at", "__len__", "words", "asked", "ran", "__getitem__", "__setitem__", "ticks", "tick_only", "ready",
+               "renew", "go", "finish", "__iadd__"],
+    "Known": ["book", "lines", "__len__", "__getitem__", "__contains__", "__setitem__", "__iadd__", "__call__", "__or__",
+              "follows_from", "__eq__", "__ne__"],
 }
 
 # A file that breaks just this rule.
@@ -149,7 +165,28 @@ class Rules(unittest.TestCase):
             "comes_true": "(book, lines, ticks)", "failing_store": "(book, lines, ticks)",
             "good_choices": "(book, lines)", "harmed_among": "(book, lines)", "mends": "(book, lines, ticks)",
             "fewest_mend": "(book, lines, ticks)", "must_go_with": "(book, lines, ticks)",
-            "ruled_out_by": "(book, lines, pair)"})
+            "ruled_out_by": "(book, lines, pair)",
+            "lines_at": "(book, store, calls, place, ticks=None)", "stages": "(book, store, calls, ticks=None)",
+            "is_way": "(book, store, calls, thing, ticks=None)", "ways": "(book, store, calls, ticks=None)",
+            "cut_ranges": "(book, store, calls, ticks=None)", "is_span": "(book, store, calls, thing, ticks=None)",
+            "spans": "(book, store, calls, ticks=None)", "shown": "(book, store, calls, ticks=None)",
+            "voided": "(book, line, lines)", "asks_needed": "(book, store, calls, cuts, ticks=None, *, keep=False)",
+            "how_often": "(book, calls, lines=())", "Service": "(book, store)",
+            "Client": "(book, calls, *, asker, runner)", "outcomes": "(book, lines, calls)",
+            "foretold": "(book, lines, calls)", "beginning": "(book, lines, calls)", "fork": "(book, lines, calls)",
+            "is_fork": "(book, lines, calls, thing)", "surprises": "(book, lines, calls, store)",
+            "fewest_surprises": "(book, lines, calls)", "most_surprises": "(book, lines, calls)",
+            "Known": "(book, lines=())"})
+
+    def test_classes_define_their_methods_themselves(self):
+        classes = [(file, name) for file, names in INTERFACE.items() for name in names if name[0].isupper()]
+        self.assertEqual([name for _, name in classes], list(METHODS))
+        for file, name in classes:
+            defined = vars(getattr(importlib.import_module(f"stillgood.{file}"), name))
+            for method in METHODS[name]:
+                self.assertIn(method, defined)
+            public = [part for part in defined if not part.startswith("_")]
+            self.assertEqual(sorted(public), sorted(part for part in METHODS[name] if not part.startswith("_")))
 
     def test_no_warnings(self):
         with warnings.catch_warnings():
