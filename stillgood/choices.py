@@ -2,8 +2,9 @@
 
 from stillgood.calls import checked_lines
 from stillgood.cases import showing
+from stillgood.places import by_size, has_all, later_places, least_ones, place_pairs
 from stillgood.runs import first_store, run_line, shown_states
-from stillgood.values import ascending, by_size, later_places, place_pairs
+from stillgood.values import ascending
 
 
 def comes_true(book, lines, ticks):
@@ -60,20 +61,6 @@ def mends(book, lines, ticks):
 def change_between(ticks, choice):
     """The places that are either in the ticks or in the choice."""
     return ascending([place for place in ticks + choice if place not in ticks or place not in choice])
-
-
-def least_ones(choices):
-    """Those of the choices that have no other one of them within, fewer places first."""
-    found = []
-    for choice in by_size(choices):
-        if not any([has_all(choice, least) for least in found]):
-            found.append(choice)
-    return found
-
-
-def has_all(choice, places):
-    """Whether the choice has all of the places."""
-    return all([place in choice for place in places])
 
 
 def fewest_mend(book, lines, ticks):

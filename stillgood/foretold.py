@@ -15,12 +15,17 @@ def outcomes(book, lines, calls):
 def outcome_stores(book, lines, calls):
     """A dict from each outcome of the CALLs to a STORE that shows the LINES and has this outcome."""
     shown, checked = checked_lines(book, lines), checked_calls(book, calls)
+    return stores_by_outcome(book, states_of(book, shown, checked), checked)
+
+
+def stores_by_outcome(book, states, calls):
+    """A dict from each outcome that the CALLs have from these states on to a STORE that has this outcome."""
     found = {}
-    waiting = [((), state) for state in states_of(book, shown, checked)]
+    waiting = [((), state) for state in states]
     while waiting != []:
         words, state = waiting.pop()
-        if len(words) < len(checked):
-            ways = ways_behind(book, state, checked[len(words)])
+        if len(words) < len(calls):
+            ways = ways_behind(book, state, calls[len(words)])
             waiting.extend([((*words, word), behind) for word, behind in ways])
         elif words not in found:
             found[words] = store_of(state[0])

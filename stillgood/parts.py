@@ -1,9 +1,10 @@
 """LINES that were all asked on one STORE: the least part of them that fails."""
 
 from stillgood.calls import checked_lines, run, shows
+from stillgood.places import later_places
 from stillgood.runs import first_store, run_line, shown_states
 from stillgood.telling import is_telling, length
-from stillgood.values import are_numbers, is_store, later_places
+from stillgood.values import are_numbers, is_store
 
 
 def first_untrue(book, store, lines, ticks):

@@ -21,6 +21,15 @@ def shown_states(book, lines, calls=()):
     return [(scene, {}) for scene in shown_scenes(book, lines, calls)]
 
 
+def asked_ways(book, state, calls):
+    """The pairs of the LINES of the CALLs that can be shown in a state, and of the state in which they are."""
+    found = [((), state)]
+    for call in calls:
+        found = [((*lines, (call, ending[1])), (ending[0], view)) for lines, (scene, view) in found
+                 for ending in endings(book, scene, view, call)]
+    return found
+
+
 def ways_behind(book, state, call):
     """The pairs of a word that the CALL, when it is run, can answer, and of the state behind it."""
     scene, view = state

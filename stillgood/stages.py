@@ -9,8 +9,7 @@ from stillgood.calls import checked_calls, checked_line, checked_lines, run, sho
 from stillgood.errors import NoPlace, NoWay
 from stillgood.harm import harms
 from stillgood.pairs import Pairs, reach
-from stillgood.runs import first_store, shown_states, ways_behind
-from stillgood.scenes import endings
+from stillgood.runs import asked_ways, first_store, shown_states, ways_behind
 from stillgood.values import are_numbers, ascending
 
 
@@ -196,13 +195,4 @@ def stage_ways(book, pairs, state, calls, first):
         for call in calls[first:behind]:
             states = [way[1] for before in states for way in ways_behind(book, before, call)]
         found.extend([(later, behind) for later in states])
-    return found
-
-
-def asked_ways(book, state, calls):
-    """The pairs of the LINES of the CALLs that can be shown in a state, and of the state in which they are."""
-    found = [((), state)]
-    for call in calls:
-        found = [((*lines, (call, ending[1])), (ending[0], view)) for lines, (scene, view) in found
-                 for ending in endings(book, scene, view, call)]
     return found

@@ -5,7 +5,8 @@ from stillgood.cases import known
 from stillgood.errors import NoKind
 from stillgood.harm import harm_store, harms, turning_store
 from stillgood.kinds import constants_in
-from stillgood.values import ascending, number_choices, place_pairs
+from stillgood.places import place_pairs
+from stillgood.values import ascending, number_choices
 
 
 def harmed(book, lines):

@@ -1,4 +1,4 @@
-"""Plain values: numbers, NAMEs, tuples, places, STOREs, and numbers as they are written in texts."""
+"""Plain values: numbers, NAMEs, tuples, STOREs, and numbers as they are written in texts."""
 
 
 def is_number(value):
@@ -30,21 +30,6 @@ def tupled(value):
 def ascending(members):
     """The members as an ascending tuple, without duplicates."""
     return tuple(sorted(set(members)))
-
-
-def place_pairs(many):
-    """The pairs (i, j), i < j, of so many places, ascending."""
-    return [(i, j) for i in range(many) for j in range(i + 1, many)]
-
-
-def later_places(places, many):
-    """Those of so many places that stand behind all of these ascending ones."""
-    return list(range(max(places, default=-1) + 1, many))
-
-
-def by_size(choices):
-    """The tuples as a list, those with fewer members first, among these ascending."""
-    return sorted(choices, key=lambda places: (len(places), places))
 
 
 def are_numbers(value):

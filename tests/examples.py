@@ -204,4 +204,71 @@ raises NeverShown()
 >>> told[("test", 1, 4)] = "yes"
 raises NeverShown()
 ''',
+    15: r'''
+>>> settles(more, lines, calls, [("test", 1, 4)]), settles(more, lines, calls, [("test", 1, 5)]), settles(both, thrice, [("make", 5)] * 3, ())
+(True, False, True)
+>>> told_by(more, lines, calls, [("test", 1, 5)])
+[(('no',), (('copied', 'no'), ('copied', 'yes'))), (('yes',), (('copied', 'no'),))]
+>>> unsettled(more, lines, calls, [("test", 1, 5)])[2], fewest_questions(more, lines, calls, [("test", 1, 5), ("test", 1, 4)]), fewest_questions(more, lines, calls, [("drop", 9)])
+(1, (1,), None)
+>>> there = ("there", ("k",), ("has", "k", ("say", (), "yes"), ("say", (), "no")))
+>>> pick = ("pick", (), ("has", 1, ("has", 2, ("say", (), "yes"), ("say", (), "no")), ("has", 3, ("say", (), "yes"), ("say", (), "no"))))
+>>> three, pool = Book(("f",), (there, pick)), (("there", 1), ("there", 2), ("there", 3))
+>>> fewest_questions(three, (), [("pick",)], pool), one_by_one(three, (), [("pick",)], pool), least_choices(three, (), [("pick",)], pool + (("pick",),))
+((0, 1, 2), 2, [(0, 1, 2), (3,)])
+>>> inquire(three, (), [("pick",)], pool, {("there", 1): "yes", ("there", 2): "no"}.get)
+(((('there', 1), 'yes'), (('there', 2), 'no')), ('no',))
+>>> inquire(three, (), [("pick",)], pool[:1], {("there", 1): "yes"}.get)
+raises Unsettled()
+''',
+    16: r'''
+>>> look = ("look", ("k",), ("has", "k", ("say", (), "yes"), ("say", (), "no")))
+>>> shop = both | Book(("f",), (look,))
+>>> lines = ((("make", 5), "made"), (("look", 5), "no"), (("look", 6), "no"), (("make", 6), "made"))
+>>> orders = Orders(shop, lines)
+>>> orders.many, [orders[number] for number in range(6)]
+(6, [(1, 0, 2, 3), (1, 2, 0, 3), (1, 2, 3, 0), (2, 1, 0, 3), (2, 1, 3, 0), (2, 3, 1, 0)])
+>>> (0, 1, 2, 3) in orders, orders.number_of((2, 1, 3, 0)), orders.after(()), orders.after((2,)), orders.after((0,))
+(False, 4, (1, 2), (1, 3), ())
+>>> is_good(shop, lines, (3, 0)), turned(shop, lines, (3, 0)), turned(shop, lines, (0, 2, 3, 1))[:2], ring(shop, lines), left_out(shop, lines)
+(True, None, (0, 1), None, ((), (1, 0, 2, 3)))
+>>> orders.number_of((3, 1, 0, 2))
+raises Turned(first=3, second=2)
+>>> orders[6]
+raises NoOrder(number=6)
+>>> gate = ("gate", ("a", "b"), ("has", "a", ("say", (), "shut"), ("say", (("make", "b", (0,)),), "open")))
+>>> gates = Book(("f",), (gate,))
+>>> three = ((("gate", 1, 2), "open"), (("gate", 2, 3), "open"), (("gate", 3, 1), "open"))
+>>> ring(gates, three), shows_ring(gates, three, (1, 2, 0)), shows_ring(gates, three, (0, 2, 1)), Orders(gates, three).many, left_out(gates, three)
+((0, 1, 2), True, False, 0, ((0,), (2, 1)))
+>>> is_good(gates, three, (0, 3))
+raises NoPlace(place=3)
+''',
+    17: r'''
+>>> harmed(shop, lines), largest(shop, lines), unticks(shop, lines), sure_ticks(shop, lines)
+([(0, 1)], (0, 2, 3), [(0,), (1,)], 12)
+>>> harmed(gates, three), largest(gates, three), unticks(gates, three), sure_ticks(gates, three)
+([(0, 1), (1, 2)], (0, 2), [(0, 2), (1,)], 5)
+>>> choice = Choice(gates, three)
+>>> choice[0] = True
+>>> choice.ticks, len(choice), choice[1], choice.may_tick(), choice.must_go(1), choice.holds()
+((0,), 1, False, (2,), (0,), True)
+>>> choice[1] = True
+>>> choice.holds(), choice.mend(), choice.may_tick(), (~choice).ticks, choice.within(choice | ~choice)
+(False, (0,), (), (2,), True)
+>>> choice.ticks = (0, 2)
+>>> choice.must_go(1), choice.holds(), Choice(gates, three, (0, 1, 2)).mend()
+((0, 2), True, (1,))
+>>> choice[3] = True
+raises NoPlace(place=3)
+''',
+    18: r'''
+>>> users = (lines[:1], lines[1:2], lines[2:3])
+>>> together(shop, users), clash(shop, users)[:2], turns(shop, users), weavings_many(shop, users)
+(False, ((0, 0), (1, 0)), [(1, 0, 2), (1, 2, 0), (2, 1, 0)], 3)
+>>> free(shop, users, (0, 0, 0)), free(shop, users, (0, 1, 0)), free(shop, users, (1, 1, 1)), together(shop, users[1:]), clash(shop, users[1:])
+((1, 2), (0, 2), (), True, None)
+>>> turns(gates, (three[:1], three[1:2], three[2:])), weavings_many(gates, (three[:1], three[1:2])), turns(gates, (three[:2],)), together(gates, ((), three[:1]))
+([], 1, [], True)
+''',
 }
