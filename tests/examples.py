@@ -271,4 +271,71 @@ raises NoPlace(place=3)
 >>> turns(gates, (three[:1], three[1:2], three[2:])), weavings_many(gates, (three[:1], three[1:2])), turns(gates, (three[:2],)), together(gates, ((), three[:1]))
 ([], 1, [], True)
 ''',
+    19: r'''
+>>> a, b, c = step(("make", 5)), step(("make", 6)), step(("drop", 5))
+>>> plan = a >> (b | c).again()
+>>> plan.tree
+('then', ('call', ('make', 5)), ('again', ('or', ('call', ('make', 6)), ('call', ('drop', 5)))))
+>>> len(plan), ("drop", 5) in plan, plan.calls, plan.heads == plan.tails == plan.calls
+(3, True, (('drop', 5), ('make', 5), ('make', 6)), True)
+>>> plan.lists(2), len(plan.before()), plan.before() == plan.unmarked()
+([(('make', 5),), (('make', 5), ('drop', 5)), (('make', 5), ('make', 6))], 6, True)
+>>> plan.witness(("drop", 5), ("make", 6)), plan.witness(("make", 6), ("make", 5))
+((('make', 5), ('drop', 5), ('make', 6)), None)
+>>> 2 * a == a * 2 == a >> a, 0 * a == nothing(), a.within(a.again()), a.again().within(a), (a | b) == (b | a), (a | b).alike(b | a)
+(True, True, True, False, False, True)
+>>> plan_holds(both, a.again(), ((("make", 5), "taken"),)), plan_holds(both, a.again(), ((("make", 5), "made"),))
+(True, False)
+>>> plan_failure(both, plan, ((("make", 5), "made"), (("make", 6), "made"), (("drop", 5), "gone")))[:3]
+((('make', 5), ('drop', 5)), 0, 1)
+>>> calm(both, plan), plan.gaps(), least_marks(both, plan)
+(False, [(), (2,)], [((), (2,))])
+>>> freed = plan.marked(((), (2,)))
+>>> calm(both, freed), freed.heads, freed.unmarked(), (c >> mark() >> c).before(), (c >> mark() >> c).unmarked(), (c >> a).heads
+(True, (('make', 5),), [], [(('drop', 5), ('drop', 5))], [], (('drop', 5), ('make', 5)))
+>>> mark().lists(1), (a | nothing()).lists(1)
+([((),)], [(), (('make', 5),)])
+>>> plan_holds(both, plan, ((("make", 5), "made"),))
+raises NoLine(call=('drop', 5))
+''',
+    20: r'''
+>>> ones = both | Book(("f",), (("make", ("k",), ("has", "k", ("say", (), "taken"), ("say", (("make", "k", (1,)),), "made"))),))
+>>> alike_kind(both, ones, "drop"), alike_kind(both, ones, "make"), changed(both, ones), keeps(both, ones), keeps(ones, both)
+(True, False, ((), (), ('make',)), True, True)
+>>> store, call = parted(both, ones, "make")
+>>> ask(both, store, call), ask(ones, store, call), run(both, store, [call])[1] == run(ones, store, [call])[1]
+('made', 'made', False)
+>>> twice = both | Book(("f",), (("drop", ("k",), ("has", "k", ("say", (("set", "k", "f", 3), ("drop", "k")), "dropped"), ("say", (), "gone"))),))
+>>> alike_kind(both, twice, "drop"), parted(both, twice, "drop"), both["drop"] == twice["drop"], changed(both, shop)
+(True, None, False, ((), ('look',), ()))
+>>> quiet = both | Book(("f",), (("drop", ("k",), ("has", "k", ("say", (("drop", "k"),), "gone"), ("say", (), "gone"))),))
+>>> keeps(both, quiet), hold(both, ((("drop", 5), "gone"), (("make", 5), "taken"))), hold(quiet, ((("drop", 5), "gone"), (("make", 5), "taken")))
+(False, True, False)
+>>> pair, store = broken(both, quiet)
+>>> hold(both, pair), shows(quiet, store, pair), run(quiet, store, [pair[0][0], pair[1][0]])[0][1] == pair[1][1]
+(True, True, False)
+>>> alike_kind(both, gates, "make")
+raises NoKind(name='make')
+''',
+    21: r'''
+>>> lines_text([(("make", 5), "made"), (("drop", -6), "gone")]), lines_in(both, "make 5 made\ndrop -6 gone"), lines_in(both, "")
+('make 5 made\ndrop -6 gone', ((('make', 5), 'made'), (('drop', -6), 'gone')), ())
+>>> lines_in(both, "make 5 made\n")
+raises BadLine(number=1)
+>>> lines_in(both, "make 5 made\nmake 05 made\nput 5 7 put")
+raises BadLine(number=1)
+''',
+    22: r'''
+>>> desk = Desk(both)
+>>> desk.page("line make 5 made\nline make 5 made\nline drop 5 gone\ncheck\nrun")
+['line 0', 'line 1', 'line 2', 'harms 0 1', 'run made taken dropped']
+>>> desk("untick 1 0"), desk("check"), desk("choice"), desk("tick 1"), desk("order"), desk("mend")
+('ticked 2', 'holds', 'true', 'ticked 1 2', 'order 2 1', 'mend 1')
+>>> desk("cut 0"), desk.lines, desk.ticks, desk("undo"), desk("undo"), desk.ticks, desk("part")
+('cut 0', ((('make', 5), 'made'), (('drop', 5), 'gone')), (0, 1), 'undone', 'undone', (2,), 'part 0 1')
+>>> desk("line put 5 gone"), desk("line make five made"), desk("tick 3"), desk("tick"), desk("Line make 5 made"), Desk(both)("undo")
+('refused BadCall', 'refused BadRequest', 'refused NoPlace', 'refused BadRequest', 'refused BadRequest', 'refused NothingDone')
+>>> desk("line drop 5 dropped"), desk("run"), len(desk)
+('line 3', 'refused NeverShown', 4)
+''',
 }

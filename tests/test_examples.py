@@ -2,12 +2,12 @@
 
 import unittest
 
-from stillgood import (books, calls, cases, choices, client, errors, foretold, harm, orders, parts, settling, stages,
-                       table, telling, texts, ticked, unticks, users)
+from stillgood import (books, calls, cases, choices, client, desk, editions, errors, foretold, harm, orders, pages, parts,
+                       plans, settling, stages, table, telling, texts, ticked, unticks, users)
 from tests.examples import EXAMPLES
 
-FILES = (books, calls, cases, choices, client, foretold, harm, orders, parts, settling, stages, table, telling, texts, ticked,
-         unticks, users)
+FILES = (books, calls, cases, choices, client, desk, editions, foretold, harm, orders, pages, parts, plans, settling, stages,
+         table, telling, texts, ticked, unticks, users)
 
 
 def raised(source, names):
@@ -43,9 +43,9 @@ class Examples(unittest.TestCase):
             self.assertEqual(repr(eval(source, names)), repr(eval(expected, {})))
 
     def test_every_point_has_examples(self):
-        self.assertEqual(list(EXAMPLES), list(range(4, 19)))
+        self.assertEqual(list(EXAMPLES), list(range(4, 23)))
         self.assertEqual([text.count("\n>>> ") for text in EXAMPLES.values()], [6, 4, 4, 10, 5, 4, 16, 16, 14, 15, 18,
-                                                                                   9, 14, 10, 4])
+                                                                                   9, 14, 10, 4, 14, 11, 3, 6])
 
 
 if __name__ == "__main__":

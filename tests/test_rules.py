@@ -30,6 +30,10 @@ INTERFACE = {
     "orders": ["is_good", "turned", "ring", "shows_ring", "left_out", "Orders"],
     "unticks": ["largest", "unticks", "sure_ticks", "Choice"],
     "users": ["together", "clash", "turns", "weavings_many", "free"],
+    "plans": ["Plan", "step", "nothing", "mark", "plan_holds", "plan_failure", "calm", "least_marks"],
+    "editions": ["alike_kind", "parted", "changed", "keeps", "broken"],
+    "pages": ["lines_text", "lines_in"],
+    "desk": ["Desk"],
 }
 # What the document lists of each class; the rest of it is private.
 METHODS = {
@@ -44,6 +48,9 @@ METHODS = {
     "Orders": ["lines", "many", "__getitem__", "__contains__", "number_of", "after"],
     "Choice": ["lines", "ticks", "put", "__len__", "__getitem__", "__setitem__", "holds", "may_tick", "must_go", "mend",
                "within", "__or__", "__and__", "__invert__", "__ior__", "__iand__", "__eq__"],
+    "Plan": ["tree", "calls", "heads", "tails", "__len__", "__contains__", "__eq__", "__ne__", "__rshift__", "__or__",
+             "__mul__", "__rmul__", "again", "within", "alike", "lists", "before", "unmarked", "witness", "gaps", "marked"],
+    "Desk": ["book", "lines", "ticks", "__len__", "__call__", "page"],
 }
 
 # A file that breaks just this rule.
@@ -191,7 +198,12 @@ class Rules(unittest.TestCase):
             "shows_ring": "(book, lines, thing)", "left_out": "(book, lines)", "Orders": "(book, lines)",
             "largest": "(book, lines)", "unticks": "(book, lines)", "sure_ticks": "(book, lines)",
             "Choice": "(book, lines, ticks=())", "together": "(book, users)", "clash": "(book, users)",
-            "turns": "(book, users)", "weavings_many": "(book, users)", "free": "(book, users, done)"})
+            "turns": "(book, users)", "weavings_many": "(book, users)", "free": "(book, users, done)",
+            "Plan": "(tree)", "step": "(call)", "nothing": "()", "mark": "()", "plan_holds": "(book, plan, lines)",
+            "plan_failure": "(book, plan, lines)", "calm": "(book, plan)", "least_marks": "(book, plan)",
+            "alike_kind": "(one, other, name)", "parted": "(one, other, name)", "changed": "(one, other)",
+            "keeps": "(one, other)", "broken": "(one, other)", "lines_text": "(lines)", "lines_in": "(book, text)",
+            "Desk": "(book)"})
 
     def test_classes_define_their_methods_themselves(self):
         classes = [(file, name) for file, names in INTERFACE.items() for name in names if name[0].isupper()]
