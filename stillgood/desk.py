@@ -127,7 +127,7 @@ class Desk:
     def _done(self, words):
         """Does the request with these words; returns the reply."""
         if words[0] in QUESTIONS:
-            return self._told(words[0])
+            return self._answer(words[0])
         if words[0] == "undo":
             self._lines, self._ticks = self._past.pop()
             return "undone"
@@ -137,7 +137,7 @@ class Desk:
         places = read_places(words[1:])
         return self._cut(places[0]) if words[0] == "cut" else self._tick(places, words[0] == "tick")
 
-    def _told(self, word):
+    def _answer(self, word):
         """The reply to a request that changes nothing."""
         question = QUESTIONS[word]
         try:

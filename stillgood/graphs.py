@@ -131,7 +131,7 @@ def lists_within(graph, most):
     waiting = [((), (START,))]
     while waiting != []:
         path, nodes = waiting.pop()
-        if graph.can_end(nodes) and len(path) <= most:
+        if graph.can_end(nodes):
             found.append(path)
         ahead = [later for node in nodes for later in graph.nexts[node]]
         # A node that is too far away from the END is not gone to: each path leads to a LIST.
@@ -179,5 +179,5 @@ def phases_behind(phase, member, call, other, unmarked):
     if phase == 0:
         return [0, 1] if member == call else [0]
     if phase == 1 and member == other:
-        return [1, 2]
+        return [2]
     return [] if phase == 1 and unmarked and member == MARK else [phase]

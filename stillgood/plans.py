@@ -82,13 +82,13 @@ class Plan:
 
     def before(self):
         """The ascending list of the pairs of CALLs of which the one stands ahead of the other in some LIST."""
-        return self._pairs([])
+        return self._call_pairs([])
 
     def unmarked(self):
         """The pairs of before that have no mark between the two in some LIST."""
-        return self._pairs(self._graph.marks())
+        return self._call_pairs(self._graph.marks())
 
-    def _pairs(self, stops):
+    def _call_pairs(self, stops):
         """The pairs of CALLs of which the one stands ahead of the other, with none of the stops between them."""
         return sorted(set([(call, other) for node in self._graph.members for call in self._graph.calls_at([node])
                            for other in self._graph.calls_at(self._graph.reached(node, stops))]))

@@ -15,6 +15,8 @@ TEST = ("test", ("k", "v"), ("has", "k", ("is", "k", "f", "v", ("say", (), "yes"
                              ("say", (), "none")))
 COPY = ("copy", ("a", "b"), ("has", "a", ("let", "x", "a", "f", ("say", (("make", "b", ("x",)),), "copied")),
                              ("say", (), "none")))
+LOOK = ("look", ("k",), ("has", "k", ("say", (), "yes"), ("say", (), "no")))
+GATE = ("gate", ("a", "b"), ("has", "a", ("say", (), "shut"), ("say", (("make", "b", (0,)),), "open")))
 # All forms of BODY, TERM and CHANGE, with two fields.
 RICH = ("rich", ("a", "b"), ("has", "a", ("is", "a", "g", "b", ("let", "x", "a", "f", (
     "has", "x", ("say", (("make", "x", ("b", -3)), ("drop", "a")), "one"), ("say", (("set", "x", "g", 7),), "two"))),
@@ -24,6 +26,19 @@ RICH = ("rich", ("a", "b"), ("has", "a", ("is", "a", "g", "b", ("let", "x", "a",
 
 def both():
     return Book(("f",), (MAKE, DROP))
+
+
+def shop():
+    return Book(("f",), (MAKE, DROP, LOOK))
+
+
+def gates():
+    return Book(("f",), (GATE,))
+
+
+def gate_lines(*steps):
+    """The LINEs of open gates from each of these numbers to another one."""
+    return tuple((("gate", a, b), "open") for a, b in steps)
 
 
 def chase():

@@ -10,12 +10,11 @@ from stillgood.foretold import beginning, foretold
 from stillgood.orders import Orders
 from stillgood.parts import least_part
 from stillgood.ticked import harmed
-from tests.helpers import COPY, DROP, MAKE, TEST, Case, both
+from tests.helpers import COPY, DROP, LOOK, MAKE, TEST, Case, both, gates
 
-LOOK = ("look", ("k",), ("has", "k", ("say", (), "yes"), ("say", (), "no")))
 ALL = ("all", (), ("say", (), "yes"))
 SHOP = Book(("f",), (MAKE, DROP, LOOK, TEST, ALL, COPY))
-GATES = Book(("f",), (("gate", ("a", "b"), ("has", "a", ("say", (), "shut"), ("say", (("make", "b", (0,)),), "open"))),))
+GATES = gates()
 MADE, GONE = (("make", 5), "made"), (("drop", 5), "gone")
 ROWS = ("line make 5 made", "line make 5 taken", "line drop 5 gone", "line drop 5 dropped", "line look 5 yes", "line look 5 no",
         "line make 6 made", "line look 6 no", "line test 5 0 yes", "line all yes", "line copy 6 5 copied", "line copy 5 6 none")
@@ -231,7 +230,7 @@ class Refused(Case):
 
     def test_bad_requests(self):
         self.refused("BadRequest", (
-            "", " ", "line", "line ", "line make", "line 5 made", "line make 5", "line make five made", "line make 5 Made",
+            "", " ", "line", "line ", "line make", "line all", "line 5 made", "line make 5", "line make five made", "line make 5 Made",
             "line make 5 ninechars", "line ninechars 5 made", "line Make 5 made", "line make  5 made", "line make 05 made",
             "line make +5 made", "line make -0 made", "line make 5 made ", " line make 5 made", "line make 5 7", "Line make 5 made",
             "line make 5, made", "line make made made", "cut", "cut ", "cut 0 1", "cut -1", "cut 00", "cut 01", "cut +0", "cut a",

@@ -10,10 +10,9 @@ from stillgood.errors import NoKind, Uneven, Unlike
 from stillgood.harm import harms
 from stillgood.table import Table
 from stillgood.ticked import hold
-from tests.helpers import (DROP, MAKE, Case, both, calls_over, followed, random_book, random_body, small_stores,
+from tests.helpers import (DROP, LOOK, MAKE, Case, both, calls_over, followed, random_body, random_book, small_stores,
                            words_of)
 
-LOOK = ("look", ("k",), ("has", "k", ("say", (), "yes"), ("say", (), "no")))
 
 
 def say(word, *changes):

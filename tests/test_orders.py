@@ -4,27 +4,19 @@ import itertools
 import math
 import random
 
-from stillgood.books import Book
 from stillgood.calls import run, shows
 from stillgood.errors import BadCall, NoOrder, NoPlace, Turned
 from stillgood.harm import harms
 from stillgood.orders import Orders, is_good, left_out, ring, shows_ring, turned
 from stillgood.ticked import hold
-from tests.helpers import (Case, all_ticks, both, calls_over, chase, followed, listed, outcome, random_book, random_lines,
-                           rich, showing, small_stores)
+from tests.helpers import (Case, all_ticks, both, calls_over, chase, followed, gate_lines, gates, listed, outcome,
+                           random_book, random_lines, rich, shop, showing, small_stores)
 
-LOOK = ("look", ("k",), ("has", "k", ("say", (), "yes"), ("say", (), "no")))
-SHOP = both() | Book(("f",), (LOOK,))
+SHOP = shop()
 LINES = ((("make", 5), "made"), (("look", 5), "no"), (("look", 6), "no"), (("make", 6), "made"))
-GATE = ("gate", ("a", "b"), ("has", "a", ("say", (), "shut"), ("say", (("make", "b", (0,)),), "open")))
-GATES = Book(("f",), (GATE,))
-RING = ((("gate", 1, 2), "open"), (("gate", 2, 3), "open"), (("gate", 3, 1), "open"))
+GATES = gates()
+RING = gate_lines((1, 2), (2, 3), (3, 1))
 MADE = (("make", 5), "made")
-
-
-def gates(*steps):
-    """The LINEs of gates from each of these numbers to another one."""
-    return tuple((("gate", a, b), "open") for a, b in steps)
 
 
 def orders_of(many):
@@ -126,7 +118,7 @@ class TheOrders(Case):
 
     def test_gates(self):
         for steps in itertools.combinations([(a, b) for a in (1, 2, 3) for b in (1, 2, 3)], 4):
-            self.check(GATES, gates(*steps))
+            self.check(GATES, gate_lines(*steps))
 
     def test_no_lines_and_one(self):
         self.assertEqual((self.check(both(), ()), self.check(both(), (MADE,))), (1, 1))
@@ -160,14 +152,14 @@ class TheOrders(Case):
 
     def test_rings_of_many_lines(self):
         for many in (2, 5, 12):
-            lines = gates(*[(at, (at + 1) % many) for at in range(many)])
+            lines = gate_lines(*[(at, (at + 1) % many) for at in range(many)])
             found = ring(GATES, lines)
             self.assertEqual(found, tuple(range(many)))
             self.assertIs(shows_ring(GATES, lines, found), True)
             self.assertEqual(left_out(GATES, lines), ((0,), tuple(range(many - 1, 0, -1))))
             self.assertEqual(Orders(GATES, lines).many, 0)
         # Two rings: the shorter one is told, wherever it stands.
-        lines = gates((1, 2), (2, 3), (3, 4), (4, 1), (4, 3))
+        lines = gate_lines((1, 2), (2, 3), (3, 4), (4, 1), (4, 3))
         self.assertEqual(ring(GATES, lines), (2, 4))
         self.assertIs(shows_ring(GATES, lines, (0, 1, 2, 3)), True)
         self.assertEqual(left_out(GATES, lines), ((2,), (1, 0, 3, 4)))
@@ -193,7 +185,7 @@ class TheOrders(Case):
         self.assertEqual((ring(both(), lines), left_out(both(), lines)), (None, ((), tuple(range(12)))))
 
     def test_twelve_lines_in_one_order_only(self):
-        lines = gates(*[(at, at + 1) for at in range(12)])
+        lines = gate_lines(*[(at, at + 1) for at in range(12)])
         orders = Orders(GATES, lines)
         self.assertEqual((orders.many, orders[0]), (1, tuple(range(11, -1, -1))))
         self.assertEqual((orders.after((11, 10)), orders.after((10,)), orders.after((0,))), ((9,), (), ()))

@@ -70,4 +70,5 @@ class Wrong(Case):
             self.assertEqual(len(lines_in(WORDY, text)), 1)
         self.fails(BadLine, {"number": 0}, lines_in, Book(("f",), ()), "make 5 made")
         self.fails(BadLine, {"number": 0}, lines_in, WORDY, "all 1 yes")
+        self.fails(BadLine, {"number": 0}, lines_in, WORDY, "all")
         self.fails(BadLine, {"number": 0}, lines_in, WORDY, "test 1 yes")

@@ -3,17 +3,15 @@
 import itertools
 import random
 
-from stillgood.books import Book
 from stillgood.calls import run, shows
 from stillgood.errors import BadCall, BadPlan, NoGap, NoLine
 from stillgood.harm import can_harm, harms
 from stillgood.plans import Plan, calm, least_marks, mark, nothing, plan_failure, plan_holds, step
 from stillgood.ticked import hold
-from tests.helpers import Case, both, calls_over, listed, random_book, words_of
+from tests.helpers import Case, both, calls_over, listed, random_book, shop, words_of
 
 A, B, C = ("make", 5), ("make", 6), ("drop", 5)
-LOOK = ("look", ("k",), ("has", "k", ("say", (), "yes"), ("say", (), "no")))
-SHOP = both() | Book(("f",), (LOOK,))
+SHOP = shop()
 
 
 def call(*members):
@@ -241,6 +239,8 @@ class Lists(Case):
         # The least one is the least of all of the shortest ones.
         plan = (b | a | c) >> (c | b) >> (b | a).again() >> (b | a)
         self.assertEqual((plan.witness(B, B), plan.witness(C, A), plan.witness(B, A)), ((C, B, B), (C, C, A), (C, B, A)))
+        plan = a >> mark() >> a >> b >> mark() >> b
+        self.assertEqual((plan.witness(A, B), plan.witness(A, B, unmarked=True)), ((A, (), A, B, (), B),) * 2)
         plan = (a >> (b | mark())).again() >> c
         self.assertEqual((plan.witness(A, A), plan.witness(A, A, unmarked=True)), ((A, (), A, (), C), (A, B, A, (), C)))
 
@@ -315,7 +315,10 @@ class Gaps(Case):
 
     def test_least_marks(self):
         seen = []
-        for seed, tree in enumerate(trees(120, (A, B, C, ("look", 5)), 5)):
+        # Of two tuples the one with more gaps can be the first by comparison.
+        uneven = (step(A) | ((mark() >> step(C)).again() >> step(A)).again().again()).tree
+        self.assertEqual([len(gaps) for gaps in least_marks(both(), Plan(uneven))], [2, 1])
+        for seed, tree in enumerate([*trees(120, (A, B, C, ("look", 5)), 5), uneven]):
             plan = Plan(tree)
             gaps = plan.gaps()
             if len(gaps) <= 6:

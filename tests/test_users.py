@@ -4,21 +4,19 @@ import itertools
 import math
 import random
 
-from stillgood.books import Book
 from stillgood.calls import run, shows
 from stillgood.errors import BadCall
 from stillgood.harm import harms
 from stillgood.orders import Orders
 from stillgood.ticked import hold
 from stillgood.users import clash, free, together, turns, weavings_many
-from tests.helpers import (Case, all_ticks, both, followed, listed, outcome, random_book, random_lines, showing,
-                           small_stores)
+from tests.helpers import (Case, all_ticks, both, followed, gate_lines, gates, listed, outcome, random_book,
+                           random_lines, shop, showing, small_stores)
 
-LOOK = ("look", ("k",), ("has", "k", ("say", (), "yes"), ("say", (), "no")))
-SHOP = both() | Book(("f",), (LOOK,))
+SHOP = shop()
 LINES = ((("make", 5), "made"), (("look", 5), "no"), (("look", 6), "no"), (("make", 6), "made"))
-GATES = Book(("f",), (("gate", ("a", "b"), ("has", "a", ("say", (), "shut"), ("say", (("make", "b", (0,)),), "open"))),))
-RING = tuple((("gate", a, b), "open") for a, b in ((1, 2), (2, 3), (3, 1)))
+GATES = gates()
+RING = gate_lines((1, 2), (2, 3), (3, 1))
 MADE, GONE = (("make", 5), "made"), (("drop", 5), "gone")
 
 
