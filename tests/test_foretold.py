@@ -99,7 +99,7 @@ class Outcomes(Case):
             self.check(book, lines, [rng.choice(calls_over(book, (0, 1))) for _ in range(2)], stores)
 
     def test_small_books_of_two_fields(self):
-        stores = list(small_stores((1, 2), 2))
+        stores = list(small_stores((1, 2, 3), 2))
         for seed in range(25):
             book, rng = random_book(seed, ("f", "g"), constants=(), tests=2, lets=False), random.Random(seed)
             lines = shown_lines(rng, book, (1, 2), 2, stores)

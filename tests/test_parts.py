@@ -90,7 +90,7 @@ class LeastPart(Case):
         self.assertGreater(min(many.count(size) for size in (0, 2)), 10)
 
     def test_small_books_of_two_fields(self):
-        stores, many = list(small_stores((1, 2), 2)), []
+        stores, many = list(small_stores((1, 2, 3), 2)), []
         for seed in range(40):
             # Without a "let" the numbers of the CALLs are enough.
             book = random_book(seed, ("f", "g"), constants=(), tests=2, lets=False)

@@ -137,7 +137,7 @@ class Settling(Case):
             self.check(book, lines, calls, pool, stores)
 
     def test_small_books_of_two_fields(self):
-        stores = list(small_stores((1, 2), 2))
+        stores = list(small_stores((1, 2, 3), 2))
         for seed in range(20):
             book, rng = random_book(seed, ("f", "g"), constants=(), tests=2, lets=False), random.Random(seed)
             calls, pool = ([rng.choice(calls_over(book, (1, 2))) for _ in range(most)] for most in (2, 3))
