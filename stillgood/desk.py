@@ -41,7 +41,8 @@ def part_reply(book, lines, _):
 def run_reply(book, lines, ticks):
     """The words that are known of the ticked CALLs when they are run."""
     words = beginning(book, lines, [lines[place][0] for place in ticks])
-    return " ".join(["run", *words, *(["?"] if len(words) < len(ticks) else [])])
+    rest = ["?"] if len(words) < len(ticks) else []
+    return " ".join(["run", *words, *rest])
 
 
 def order_reply(book, lines, ticks):
